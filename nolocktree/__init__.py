@@ -1,0 +1,1 @@
+"""Nolocktree: ordered trees read without locks."""
