@@ -1,9 +1,11 @@
-"""The kinds of plain things: whole numbers, keys, goods, places, and lists of rising keys."""
+"""The kinds of plain things: whole numbers, keys, goods, places, levels, and lists of rising keys."""
 
 LEAST_KEY = -999999999
 GREATEST_KEY = 999999999
 LEAST_MOST = 2
 GREATEST_MOST = 5
+GREATEST_LEVEL = 60
+GREATEST_COUNT = 1000000
 
 
 def is_number(thing):
@@ -35,6 +37,21 @@ def is_place(thing):
 def is_most(thing):
     """Whether the thing is a most: how many keys a node of a tree may have."""
     return is_whole(thing, LEAST_MOST, GREATEST_MOST)
+
+
+def is_level(thing):
+    """Whether the thing is a level that a node may be made of."""
+    return is_whole(thing, 0, GREATEST_LEVEL)
+
+
+def is_count(thing):
+    """Whether the thing is a lap or a version that may be handed in."""
+    return is_whole(thing, 0, GREATEST_COUNT)
+
+
+def is_doer(thing):
+    """Whether the thing is the number of a doer; these have the bounds of counts."""
+    return is_count(thing)
 
 
 def is_row(thing):

@@ -3,8 +3,9 @@
 import copy
 import unittest
 
-from nolocktree.words import in_stretch, is_good, is_key, is_most, is_place, is_rising, is_row, is_whole
-from tests.things import GREATEST, LEAST, deep, no_keys, no_numbers, odd_things
+from nolocktree.words import (
+    in_stretch, is_count, is_doer, is_good, is_key, is_level, is_most, is_place, is_rising, is_row, is_whole)
+from tests.things import GREATEST, LEAST, deep, no_doers, no_keys, no_numbers, odd_things
 
 
 class WholeTests(unittest.TestCase):
@@ -133,6 +134,20 @@ class OwnHelperTests(unittest.TestCase):
             self.assertIs(is_most(thing), thing in (2, 3, 4, 5))
         for thing in no_numbers():
             self.assertIs(is_most(thing), False)
+
+    def test_levels(self):
+        for thing in range(-2, 64):
+            self.assertIs(is_level(thing), thing in range(61))
+        for thing in no_numbers():
+            self.assertIs(is_level(thing), False)
+
+    def test_numbers_of_doers_and_counts(self):
+        for thing in (0, 1, 60, 10 ** 6):
+            self.assertIs(is_doer(thing), True)
+            self.assertIs(is_count(thing), True)
+        for thing in no_doers():
+            self.assertIs(is_doer(thing), False)
+            self.assertIs(is_count(thing), False)
 
     def test_rows(self):
         for thing in ([], (), [1, "a"], (None,), deep(8)):

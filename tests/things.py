@@ -2,6 +2,8 @@
 
 from nolocktree.errors import NoKey, TreeError
 from nolocktree.pages import Inner, Leaf
+from nolocktree.rounds import Rounds
+from nolocktree.trees import Tree, tree_of
 
 LEAST = -999999999
 GREATEST = 999999999
@@ -19,7 +21,7 @@ def odd_things():
     """Things that are no whole numbers, no lists and no tuples, new ones each time."""
     return [
         None, True, False, "", "1", "key", "~ \n", {}, {1: 2}, {"a": [1, (2, {})]},
-        Leaf([], []), Leaf([1], [2]), Inner([], [0]), NoKey(5), TreeError("words"),
+        Leaf([], []), Leaf([1], [2]), Inner([], [0]), NoKey(5), TreeError("words"), Rounds(), Tree(3),
     ]
 
 
@@ -37,6 +39,11 @@ def no_pages():
     """Things that are no pages of either kind, new ones each time."""
     plain = [thing for thing in no_keys() if not isinstance(thing, (Leaf, Inner))]
     return plain + [0, 5, ([1], [2])]
+
+
+def no_doers():
+    """Things that are no numbers of doers, nor laps, new ones each time."""
+    return no_numbers() + [-1, 10 ** 6 + 1, 10 ** 29, -10 ** 29]
 
 
 def refusal(deed, *given):
@@ -63,6 +70,53 @@ def inner_of(keys, first):
     return Inner(keys, list(range(first, first + len(keys) + 1)))
 
 
+def told_rounds(rounds):
+    """All that a Rounds tells."""
+    return (rounds.lap(), rounds.used(), rounds.kept(), rounds.free(), rounds.going())
+
+
+def told_tree(tree):
+    """All that a tree tells."""
+    rounds = tree.rounds()
+    places = tree.places() + [place for place, lap in rounds.kept()]
+    nodes = {place: tree.node(place) for place in places}
+    kinds = {place: type(tree.page(place)) for place in places}
+    return (tree.most(), tree.top(), tree.places(), told_rounds(rounds), nodes, kinds)
+
+
+def even_tree(levels, most=3):
+    """A shaped tree of so many levels: each inner node has two children, each leaf two keys; leaves come first."""
+    many = 2 ** (levels - 1)
+    nodes, lows, first = [], [10 * at for at in range(many)], 0
+    for level in range(levels):
+        rights = [len(nodes) + at + 1 for at in range(many - 1)] + [None]
+        highs = lows[1:] + [None]
+        for at in range(many):
+            page = leaf_of([lows[at], lows[at] + 5])
+            if level > 0:
+                page = Inner([child_lows[2 * at + 1]], [first + 2 * at, first + 2 * at + 1])
+            nodes.append((level, page, highs[at], rights[at], 0))
+        child_lows, lows, first, many = lows, lows[::2], len(nodes) - many, many // 2
+    return tree_of(most, len(nodes) - 1, 0, nodes)
+
+
+def tall_tree(most=3):
+    """A shaped tree of three levels, with an unposted leaf in place 4 and an unposted inner node in place 6."""
+    return tree_of(most, 7, 0, [
+        (0, Leaf([1, 5], [11, 15]), 10, 1, 0),
+        (0, Leaf([10], [20]), 20, 2, 1),
+        (0, Leaf([], []), 30, 4, 2),
+        (0, Leaf([40, 49], [50, 59]), 50, 8, 0),
+        (0, Leaf([30], [40]), 40, 3, 0),
+        (1, Inner([10, 20], [0, 1, 2]), 40, 6, 3),
+        (1, Inner([50], [3, 8]), 60, 9, 0),
+        (2, Inner([60], [5, 9]), None, None, 0),
+        (0, Leaf([50], [60]), 60, 10, 0),
+        (1, Inner([], [10]), None, None, 0),
+        (0, Leaf([60, 99], [70, 109]), None, None, 5),
+    ])
+
+
 class Checks:
     """Checks for test cases to have beside those of unittest."""
 
@@ -72,6 +126,14 @@ class Checks:
         self.assertIs(type(error), kind)
         self.assertEqual(vars(error), {field: thing})
         self.assertIs(getattr(error, field), thing)
+
+    def check_fields(self, kind, fields, deed, *given):
+        """That the deed refuses with just this class, and each field holds the very thing."""
+        error = refusal(deed, *given)
+        self.assertIs(type(error), kind)
+        self.assertEqual(list(vars(error)), list(fields))
+        for field, thing in fields.items():
+            self.assertIs(getattr(error, field), thing)
 
     def check_counted(self, kind, count, deed, *given):
         """That the deed refuses with just this class of a count."""
