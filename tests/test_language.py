@@ -34,6 +34,12 @@ NO_WORDS = re.compile(
     r"|NamedTuple|TypedDict|TYPE_CHECKING|abstractmethod|register|mro|elements|open|input|version_info|with_traceback"
     r"|add_note)\b|dataclass|overload|contextmanager")
 
+CHANGING = set("append clear extend insert pop remove reverse setdefault update sort".split())
+
+# What is told by these is walked where it stands: by a loop, or as the first thing of one of the takers.
+WALKED_AT_ONCE = {"zip", "enumerate", "reversed", "range", "items", "keys", "values"}
+TAKERS = {"list", "tuple", "dict", "sorted", "sum", "any", "all", "enumerate", "zip", "bytes", "min", "max", "join"}
+
 DUNDERS = {"__init__", "__eq__", "__repr__", "__str__", "__len__"}
 
 
@@ -56,7 +62,8 @@ def bound_names(tree):
     told = [node.arg for node in ast.walk(tree) if isinstance(node, ast.arg)]
     for top in tree.body:
         if isinstance(top, (ast.FunctionDef, ast.ClassDef)):
-            told += [node.id for node in ast.walk(top) if isinstance(node, ast.Name) and isinstance(node.ctx, ast.Store)]
+            names = [node for node in ast.walk(top) if isinstance(node, ast.Name)]
+            told += [node.id for node in names if isinstance(node.ctx, ast.Store)]
     return told
 
 
@@ -69,6 +76,43 @@ def methods_and_values():
         if isinstance(node.ctx, ast.Store):
             values.add(node.attr)
     return methods, values
+
+
+def own_arities():
+    """For each name of a def, a class or a method of the package, how many things such may be handed."""
+    told = {}
+    for name, text, tree in sources():
+        for node in tree.body:
+            if isinstance(node, ast.FunctionDef):
+                told.setdefault(node.name, set()).add(len(node.args.args))
+            elif isinstance(node, ast.ClassDef):
+                for one in node.body[1:]:
+                    key = node.name if one.name == "__init__" else one.name
+                    told.setdefault(key, set()).add(len(one.args.args) - 1)
+    return told
+
+
+def walked(node):
+    """The names of what a loop or a comprehension walks, as they are written, itself and through a call."""
+    told = {ast.unparse(node)}
+    if isinstance(node, ast.Call):
+        name = node.func.attr if isinstance(node.func, ast.Attribute) else node.func.id
+        if name in ("items", "keys", "values"):
+            told.add(ast.unparse(node.func.value))
+        if name in ("enumerate", "zip", "reversed"):
+            told |= {ast.unparse(one) for one in node.args}
+    return told
+
+
+def changed(rows):
+    """What the rows change by a method, an item or a del, as it is written."""
+    told = set()
+    for node in [one for row in rows for one in ast.walk(row)]:
+        if isinstance(node, ast.Call) and isinstance(node.func, ast.Attribute) and node.func.attr in CHANGING:
+            told.add(ast.unparse(node.func.value))
+        if isinstance(node, ast.Subscript) and not isinstance(node.ctx, ast.Load):
+            told.add(ast.unparse(node.value))
+    return told
 
 
 class FileTests(unittest.TestCase):
@@ -138,6 +182,52 @@ class RowTests(unittest.TestCase):
             methods = [one.name for one in node.body[1:] if isinstance(one, ast.FunctionDef)]
             self.assertEqual(len(methods), len(node.body) - 1, (name, node.name))
             self.assertEqual(len(methods), len(set(methods)), (name, node.name))
+
+
+class CallTests(unittest.TestCase):
+    def test_own_defs_are_handed_as_many_things_as_they_take(self):
+        told = own_arities()
+        for name, node in nodes(ast.Call):
+            called = node.func.attr if isinstance(node.func, ast.Attribute) else node.func.id
+            if called in told and called not in METHODS_OF_PYTHON:
+                self.assertIn(len(node.args), told[called], (name, node.lineno))
+
+    def test_no_keywords_but_at_sorted_and_its_like(self):
+        for name, node in nodes(ast.Call):
+            if node.keywords:
+                self.assertIn(getattr(node.func, "id", None), ("sorted", "min", "max", "sum", "enumerate", "zip"),
+                              (name, node.lineno))
+
+    def test_what_is_walked_at_once_is_not_kept(self):
+        fine = set()
+        for name, text, tree in sources():
+            for node in ast.walk(tree):
+                if isinstance(node, (ast.For, ast.comprehension)):
+                    fine.add((name, ast.unparse(node.iter), node.iter.lineno))
+                if isinstance(node, ast.Call) and node.args:
+                    called = node.func.attr if isinstance(node.func, ast.Attribute) else node.func.id
+                    if called in TAKERS:
+                        fine.add((name, ast.unparse(node.args[0]), node.args[0].lineno))
+            for node in ast.walk(tree):
+                if isinstance(node, ast.Call):
+                    called = node.func.attr if isinstance(node.func, ast.Attribute) else node.func.id
+                    if called in WALKED_AT_ONCE:
+                        self.assertIn((name, ast.unparse(node), node.lineno), fine)
+
+    def test_what_a_loop_walks_is_not_changed_in_it(self):
+        for name, node in nodes(ast.For):
+            self.assertEqual(walked(node.iter) & changed(node.body), set(), (name, node.lineno))
+
+    def test_raise_makes_its_error_on_the_spot(self):
+        for name, node in nodes(ast.Raise):
+            self.assertIsInstance(node.exc, ast.Call, (name, node.lineno))
+            self.assertIsInstance(node.exc.func, ast.Name, (name, node.lineno))
+
+    def test_sets_are_not_walked(self):
+        for name, node in nodes((ast.For, ast.comprehension)):
+            self.assertNotIsInstance(node.iter, (ast.Set, ast.SetComp), name)
+            if isinstance(node.iter, ast.Call) and isinstance(node.iter.func, ast.Name):
+                self.assertNotEqual(node.iter.func.id, "set", name)
 
 
 class NameTests(unittest.TestCase):

@@ -233,7 +233,8 @@ class ReleaseTests(unittest.TestCase):
                 rounds.leave(number)
             self.assertEqual(rounds.used(), sorted(used))
             self.assertEqual(rounds.free(), sorted(place for place, calls in awaited.items() if not calls))
-            self.assertEqual([place for place, lap in rounds.kept()], [place for place, calls in awaited.items() if calls])
+            kept = [place for place, calls in awaited.items() if calls]
+            self.assertEqual([place for place, lap in rounds.kept()], kept)
             self.assertEqual({number for number, lap in rounds.going()}, going)
 
 
@@ -280,7 +281,7 @@ class RefusalTests(Checks, unittest.TestCase):
         self.check_stays(rounds, NoDoer, 7, rounds.leave)
 
 
-class OwnTests(unittest.TestCase):
+class OwnTests(Checks, unittest.TestCase):
     def test_told_lists_are_the_askers_own(self):
         rounds = busy_rounds()
         before = told_rounds(rounds)
@@ -299,18 +300,7 @@ class OwnTests(unittest.TestCase):
 
     def test_a_twin_goes_its_own_way(self):
         deeds = [lambda one: one.given(), lambda one: one.went(2), lambda one: one.enter(8), lambda one: one.leave(7)]
-        for deed in deeds:
-            rounds = busy_rounds()
-            twin = rounds.twin()
-            before = told_rounds(rounds)
-            deed(twin)
-            self.assertEqual(told_rounds(rounds), before)
-            behind = told_rounds(twin)
-            self.assertNotEqual(behind, before)
-            deed(rounds)
-            self.assertEqual(told_rounds(rounds), behind)
-            rounds.given()
-            self.assertEqual(told_rounds(twin), behind)
+        self.check_own_ways(busy_rounds, told_rounds, deeds, lambda one: one.given())
 
     def test_two_new_ones_have_nothing_in_common(self):
         first, second = Rounds(), Rounds()

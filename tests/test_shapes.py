@@ -255,8 +255,8 @@ class ShapedTests(unittest.TestCase):
             self.check_shaped(added, shaped)
 
     def test_the_first_and_the_last_of_a_level_lack_one_of_both(self):
-        self.check_shaped({0: leaf_node([], LEAST, 1), 1: leaf_node([], 20, 3), 4: inner_node(1, [LEAST], [0, 1], 30, 5)},
-                          True)
+        changes = {0: leaf_node([], LEAST, 1), 1: leaf_node([], 20, 3), 4: inner_node(1, [LEAST], [0, 1], 30, 5)}
+        self.check_shaped(changes, True)
 
     def test_at_most_so_many_keys(self):
         self.check_shaped({0: leaf_node([1, 2, 3], 10, 1)}, True)
@@ -302,8 +302,8 @@ class ShapedTests(unittest.TestCase):
         self.assertIs(is_shaped(tree), False)
 
     def test_keys_at_either_bound(self):
-        nodes = [leaf_node([], LEAST, 1), (0, Leaf([LEAST], [1]), GREATEST, 2, 0), (0, Leaf([GREATEST], [1]), None, None, 0),
-                 inner_node(1, [LEAST, GREATEST], [0, 1, 2])]
+        nodes = [leaf_node([], LEAST, 1), (0, Leaf([LEAST], [1]), GREATEST, 2, 0),
+                 (0, Leaf([GREATEST], [1]), None, None, 0), inner_node(1, [LEAST, GREATEST], [0, 1, 2])]
         self.assertIs(is_shaped(tree_of(2, 3, 0, nodes)), True)
 
     def test_drawn_trees_beside_a_plain_reckoning(self):

@@ -454,7 +454,7 @@ class CallTests(unittest.TestCase):
         self.assertEqual(tree.rounds().free(), [1])
 
 
-class TwinTests(unittest.TestCase):
+class TwinTests(Checks, unittest.TestCase):
     def deeds(self):
         """Deeds that each change a busy tree."""
         return [
@@ -471,18 +471,7 @@ class TwinTests(unittest.TestCase):
             self.assertEqual(told_tree(twin), told_tree(tree))
 
     def test_each_goes_its_own_way(self):
-        for deed in self.deeds():
-            tree = busy_tree()
-            twin = tree.twin()
-            before = told_tree(tree)
-            deed(twin)
-            self.assertEqual(told_tree(tree), before)
-            behind = told_tree(twin)
-            self.assertNotEqual(behind, before)
-            deed(tree)
-            self.assertEqual(told_tree(tree), behind)
-            tree.made(0, leaf_of([2]), None, None)
-            self.assertEqual(told_tree(twin), behind)
+        self.check_own_ways(busy_tree, told_tree, self.deeds(), lambda tree: tree.made(0, leaf_of([2]), None, None))
 
     def test_a_twin_knows_what_was_written_since_it_was_held(self):
         tree = busy_tree()

@@ -1,8 +1,10 @@
 """Things to hand in, and a look at refusals, for all tests."""
 
-from nolocktree.errors import NoKey, TreeError
+from nolocktree.errors import NoDoer, NoKey, TreeError
+from nolocktree.finds import Find
 from nolocktree.pages import Inner, Leaf
 from nolocktree.rounds import Rounds
+from nolocktree.scenes import Scene
 from nolocktree.trees import Tree, tree_of
 
 LEAST = -999999999
@@ -22,6 +24,7 @@ def odd_things():
     return [
         None, True, False, "", "1", "key", "~ \n", {}, {1: 2}, {"a": [1, (2, {})]},
         Leaf([], []), Leaf([1], [2]), Inner([], [0]), NoKey(5), TreeError("words"), Rounds(), Tree(3),
+        Find(1), Scene(Tree(2)),
     ]
 
 
@@ -84,6 +87,11 @@ def told_tree(tree):
     return (tree.most(), tree.top(), tree.places(), told_rounds(rounds), nodes, kinds)
 
 
+def one_leaf(keys, most):
+    """A tree of one leaf with these keys."""
+    return tree_of(most, 0, 0, [(0, leaf_of(keys), None, None, 0)])
+
+
 def even_tree(levels, most=3):
     """A shaped tree of so many levels: each inner node has two children, each leaf two keys; leaves come first."""
     many = 2 ** (levels - 1)
@@ -117,6 +125,51 @@ def tall_tree(most=3):
     ])
 
 
+def scene_of(tree, *calls):
+    """A scene of the tree in which these calls have begun."""
+    scene = Scene(tree)
+    for call in calls:
+        scene.begin(call)
+    return scene
+
+
+def walk_by(*places):
+    """The steps of a walk from the top by these places: a look and a read of each."""
+    return [("top", None)] + [(word, place) for place in places for word in ("look", "read")]
+
+
+def turns_of(scene, number, many=None):
+    """Where the doer stood ahead of each of its turns: so many turns, or all up to its end."""
+    told = []
+    while len(told) != many and scene.where(number) != ("ended", None):
+        told.append(scene.turn(number))
+    return told
+
+
+def go_to(scene, number, word):
+    """Give the doer turns until it stands at a step with this word."""
+    while scene.where(number)[0] != word:
+        scene.turn(number)
+
+
+def join_unposted(scene):
+    """Join the unposted leaf of a scene of the tall tree to its left neighbour, behind the backs of its doers."""
+    tree = scene.own_tree
+    for place in (2, 4):
+        tree.hold(place, 9)
+    tree.write(2, 9, leaf_of([30]), 40, 3)
+    tree.go(4, 9)
+    tree.free(2, 9)
+
+
+def told_scene(scene):
+    """All that a scene tells."""
+    numbers = [number for number in range(60) if not isinstance(refusal(scene.where, number), NoDoer)]
+    doers = [(scene.where(number), scene.waits(number)) for number in numbers]
+    lists = (scene.going(), scene.ready(), scene.history())
+    return (scene.now(), doers, lists, scene.turns(), told_tree(scene.tree()))
+
+
 class Checks:
     """Checks for test cases to have beside those of unittest."""
 
@@ -141,6 +194,21 @@ class Checks:
         self.assertIs(type(error), kind)
         self.assertEqual(vars(error), {"count": count})
         self.assertIs(type(error.count), int)
+
+    def check_own_ways(self, make, tell, deeds, last):
+        """That of an object and its twin each is changed by its own deeds alone, and both by the same alike."""
+        for deed in deeds:
+            thing = make()
+            twin = thing.twin()
+            before = tell(thing)
+            deed(twin)
+            self.assertEqual(tell(thing), before)
+            behind = tell(twin)
+            self.assertNotEqual(behind, before)
+            deed(thing)
+            self.assertEqual(tell(thing), behind)
+            last(thing)
+            self.assertEqual(tell(twin), behind)
 
     def check_page(self, page, kind, keys, goods):
         """That the page is of this kind and tells these keys and goods, in lists."""
