@@ -17,5 +17,9 @@ class Call:
         return self.told_row
 
     def first_sought(self):
-        """The key and the level that the doer seeks at first."""
+        """The key and the level that the doer seeks at first; None as the key where it is there at any node."""
         return (self.told_row[1], 0)
+
+    def answer_of(self, outcome):
+        """The answer as it is told, of what the doer has kept as its outcome."""
+        return outcome

@@ -13,11 +13,16 @@ class Doer:
         self.key, self.level = call.first_sought()
         self.seen_version = None
         self.seen_page = None
-        # The page, high and right that are to be written into the node that is held.
-        self.to_write = None
-        # The key ahead of a new node and the node's place: at first to be posted, then what is being posted.
+        self.seen_edge = (None, None)
+        # Of a put: the key ahead of a new node and the node's place, which are to be posted, and those being posted.
         self.to_post = None
         self.posted = None
+        # Of a join: the places of the inner node, the left one and the right one, and the steps behind the next one.
+        self.joining = None
+        self.steps_ahead = ()
+        # Of a stretch: its parts so far, and the places and versions that are still to be checked.
+        self.parts = ()
+        self.noted = ()
         self.outcome = None
         self.moment = None
         self.ended = None
@@ -30,9 +35,13 @@ class Doer:
         other.seek(self.key, self.level)
         other.seen_version = self.seen_version
         other.seen_page = self.seen_page
-        other.to_write = self.to_write
+        other.seen_edge = self.seen_edge
         other.to_post = self.to_post
         other.posted = self.posted
+        other.joining = self.joining
+        other.steps_ahead = self.steps_ahead
+        other.parts = self.parts
+        other.noted = self.noted
         other.outcome = self.outcome
         other.moment = self.moment
         other.ended = self.ended
@@ -53,6 +62,12 @@ class Doer:
         self.ended = now
         self.stand("ended", None)
 
+    def end_with(self, outcome, now):
+        """End with the step of this number, which is the moment, too."""
+        self.outcome = outcome
+        self.moment = now
+        self.end(now)
+
     def stands_at(self):
         """The word and the place of the step that comes next."""
         return (self.word, self.place)
@@ -70,29 +85,33 @@ class Doer:
             return None
         return self.place
 
+    def answer(self):
+        """The answer of the call, which has ended; its lists are new ones each time."""
+        return self.call.answer_of(self.outcome)
+
     def history_row(self):
         """What a history tells of the call, which has ended."""
-        return (self.number, self.call.told(), self.began, self.moment, self.ended, self.outcome)
+        return (self.number, self.call.told(), self.began, self.moment, self.ended, self.answer())
 
     def step(self, tree, now):
         """Do the step that comes next; among those of the scene it has the number now."""
         if self.word == "top":
             self.stand("look", tree.top())
         elif self.word == "look":
-            self.look(tree)
+            self.look(tree, now)
         elif self.word == "read":
             self.read(tree, now)
         else:
             self.call.own_step(self, tree, now)
 
-    def look(self, tree):
+    def look(self, tree, now):
         """Note the node's version, and turn to reading it."""
         if tree.is_gone(self.place):
             self.stand("top", None)
             return
         self.seen_version = tree.version_of(self.place)
         if tree.level_of(self.place) < self.level:
-            self.call.too_low(self)
+            self.call.too_low(self, now)
         else:
             self.stand("read", self.place)
 
@@ -103,17 +122,22 @@ class Doer:
             return
         # Nothing was written since the look, so the keys of that moment are those of the page as it is now.
         self.seen_page = tree.page(self.place)
-        high, right = tree.edge_of(self.place)
-        if high is not None and self.key >= high:
-            self.stand("look", right)
-        elif tree.level_of(self.place) > self.level:
+        self.seen_edge = tree.edge_of(self.place)
+        if self.is_beyond():
+            self.stand("look", self.seen_edge[1])
+        elif self.key is not None and tree.level_of(self.place) > self.level:
             self.stand("look", self.seen_page.child(self.key))
         else:
             self.call.there(self, now)
 
+    def is_beyond(self):
+        """Whether the key that is sought lies behind the stretch of the node that was read."""
+        high = self.seen_edge[0]
+        return self.key is not None and high is not None and self.key >= high
+
     def is_stale(self, tree):
         """Whether the node is no more the one that was looked at."""
-        return tree.is_gone(self.place) or tree.version_of(self.place) != self.seen_version
+        return tree.has_changed(self.place, self.seen_version)
 
     def takes_hold(self, tree):
         """Hold the node if it is still the one that was read, else look at it again; tell whether it is held."""
@@ -123,14 +147,11 @@ class Doer:
         tree.hold(self.place, self.number)
         return True
 
-    def plan_write(self, tree, page):
-        """Have the page written into the held node, with the node's own high and right."""
-        high, right = tree.edge_of(self.place)
-        self.to_write = (page, high, right)
-        self.stand("write", self.place)
-
-    def write_down(self, tree):
-        """Write into the held node what is to be written, and turn to freeing it."""
-        page, high, right = self.to_write
+    def write_down(self, tree, page, high, right):
+        """Write these into the held node at which the doer stands."""
         tree.write(self.place, self.number, page, high, right)
-        self.stand("free", self.place)
+
+    def write_page(self, tree, page):
+        """Write the page into the held node at which the doer stands, with the node's own high and right."""
+        high, right = tree.edge_of(self.place)
+        self.write_down(tree, page, high, right)

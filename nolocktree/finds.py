@@ -13,6 +13,4 @@ class Find(Call):
 
     def there(self, doer, now):
         """End with what the leaf tells of the key."""
-        doer.outcome = doer.seen_page.good(doer.key)
-        doer.moment = now
-        doer.end(now)
+        doer.end_with(doer.seen_page.good(doer.key), now)

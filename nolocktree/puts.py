@@ -21,7 +21,7 @@ class Put(Call):
             doer.outcome = doer.seen_page.good(doer.key)
         doer.stand("hold", doer.place)
 
-    def too_low(self, doer):
+    def too_low(self, doer, now):
         """There is no node of the level of the post yet: turn to growing the tree."""
         doer.stand("grow", doer.place)
 
@@ -32,7 +32,7 @@ class Put(Call):
         elif doer.word == "make":
             self.make_step(doer, tree)
         elif doer.word == "write":
-            doer.write_down(tree)
+            self.write_step(doer, tree)
         elif doer.word == "free":
             self.free_step(doer, tree, now)
         else:
@@ -49,19 +49,25 @@ class Put(Call):
     def hold_step(self, doer, tree):
         """Hold the node, and see whether it is to be parted."""
         if doer.takes_hold(tree):
-            page = self.page_with(doer)
-            doer.plan_write(tree, page)
-            if page.many() > tree.most():
-                doer.stand("make", doer.place)
+            word = "make" if self.page_with(doer).many() > tree.most() else "write"
+            doer.stand(word, doer.place)
 
     def make_step(self, doer, tree):
-        """Make a node of the right part; the left part, the key between and the new place are to be written."""
-        page, high, right = doer.to_write
-        left_part, key, right_part = page.parted()
-        place = tree.made(doer.level, right_part, high, right)
-        doer.to_write = (left_part, key, place)
-        doer.to_post = (key, place)
+        """Make a node of the right part, which is to be posted."""
+        left_part, key, right_part = self.page_with(doer).parted()
+        high, right = tree.edge_of(doer.place)
+        doer.to_post = (key, tree.made(doer.level, right_part, high, right))
         doer.stand("write", doer.place)
+
+    def write_step(self, doer, tree):
+        """Write the page with the key; where it was parted, its left part, which the new node follows."""
+        page = self.page_with(doer)
+        if doer.to_post is None:
+            doer.write_page(tree, page)
+        else:
+            left_part, key, right_part = page.parted()
+            doer.write_down(tree, left_part, key, doer.to_post[1])
+        doer.stand("free", doer.place)
 
     def free_step(self, doer, tree, now):
         """Free the node; end, or post the new node where there is one."""

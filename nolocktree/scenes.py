@@ -117,7 +117,7 @@ class Scene:
         doer = self.doer_of(number)
         if not doer.has_ended():
             raise Going(number)
-        return doer.outcome
+        return doer.answer()
 
     def tree(self):
         """A twin of the tree."""

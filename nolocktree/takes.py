@@ -15,8 +15,7 @@ class Take(Call):
         """End where the leaf lacks the key, else turn to holding it."""
         doer.outcome = doer.seen_page.good(doer.key)
         if doer.outcome is None:
-            doer.moment = now
-            doer.end(now)
+            doer.end_with(None, now)
         else:
             doer.stand("hold", doer.place)
 
@@ -24,10 +23,10 @@ class Take(Call):
         """Hold, write or free the leaf."""
         if doer.word == "hold":
             if doer.takes_hold(tree):
-                doer.plan_write(tree, doer.seen_page.without(doer.key))
+                doer.stand("write", doer.place)
         elif doer.word == "write":
-            doer.write_down(tree)
+            doer.write_page(tree, doer.seen_page.without(doer.key))
+            doer.stand("free", doer.place)
         else:
             tree.free(doer.place, doer.number)
-            doer.moment = now
-            doer.end(now)
+            doer.end_with(doer.outcome, now)

@@ -131,6 +131,10 @@ class Tree:
         """Whether the node in the place is gone."""
         return self.own_rounds.is_kept(place)
 
+    def has_changed(self, place, version):
+        """Whether the node that had this version in the place is gone, or has another version by now."""
+        return self.is_gone(place) or self.versions[place] != version
+
     def need_used(self, place):
         """Refuse what is no place in use."""
         if not self.own_rounds.is_used(place):

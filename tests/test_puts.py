@@ -11,13 +11,8 @@ from nolocktree.shapes import is_shaped, levels_of, pairs_of, unposted
 from nolocktree.takes import Take
 from nolocktree.trees import Tree, tree_of
 from tests.things import (
-    GREATEST, LEAST, Checks, even_tree, go_to, join_unposted, leaf_of, no_keys, one_leaf, scene_of, spread, tall_tree,
-    turns_of, walk_by)
-
-
-def at_place(place, *words):
-    """The steps with these words at this place."""
-    return [(word, place) for word in words]
+    GREATEST, LEAST, Checks, at_place, even_tree, go_to, join_unposted, leaf_of, no_keys, one_leaf, scene_of, spread,
+    tall_tree, turns_of, walk_by)
 
 
 def grown_tree():

@@ -5,29 +5,17 @@ import unittest
 from nolocktree.calls import Call
 from nolocktree.errors import Ended, Going, Held, NoCall, NoDoer, NoShape, NoTree, NoWeaving, TooMany, Waits
 from nolocktree.finds import Find
-from nolocktree.pages import Inner, Leaf
+from nolocktree.joins import Join, Sink
+from nolocktree.pages import Leaf
 from nolocktree.puts import Put
 from nolocktree.scenes import Scene
 from nolocktree.shapes import pairs_of
+from nolocktree.stretches import Parts, Whole
 from nolocktree.takes import Take
 from nolocktree.trees import Tree, tree_of
 from tests.things import (
     Checks, deep, even_tree, go_to, leaf_of, no_numbers, odd_things, one_leaf, refusal, scene_of, tall_tree,
-    told_rounds, told_scene, told_tree, turns_of)
-
-
-class StandIn(Call):
-    """A call that tells what another kind would, and is never given a turn."""
-
-    def __init__(self, told_row):
-        Call.__init__(self, told_row)
-
-
-def tower(level):
-    """A shaped tree whose top is of this level, one node at each."""
-    nodes = [(0, leaf_of([5]), None, None, 0)]
-    nodes += [(at, Inner([], [at - 1]), None, None, 0) for at in range(1, level + 1)]
-    return tree_of(2, level, 0, nodes)
+    told_rounds, told_scene, told_tree, tower, turns_of)
 
 
 def woven_scene():
@@ -154,7 +142,7 @@ class BeginTests(Checks, unittest.TestCase):
     def test_refuses_what_is_no_call(self):
         scene = Scene(Tree(2))
         for thing in no_numbers() + [0, ("find", 1), ["find", 1]]:
-            if not isinstance(thing, Find):
+            if not isinstance(thing, Call):
                 self.check_refused(NoCall, "found", thing, scene.begin, thing)
         self.assertEqual(told_scene(scene), told_scene(Scene(Tree(2))))
 
@@ -403,7 +391,8 @@ class OwnTests(Checks, unittest.TestCase):
         self.check_own_ways(woven_scene, told_scene, deeds, lambda one: one.begin(Find(5)))
 
     def test_a_twin_at_each_step_of_a_run_goes_on_likewise(self):
-        calls = [Put(15, 1), Put(16, 2), Take(20), Find(15), Put(11, 3), Take(15)]
+        calls = [Put(15, 1), Put(16, 2), Take(20), Find(15), Put(11, 3), Take(15), Parts(0, None), Whole(9, 30),
+                 Join(25, 0), Sink(), Join(0, 1)]
         first = scene_of(even_tree(3, 2), *calls)
         weaving = []
         while first.going():
@@ -437,26 +426,27 @@ class TurnsTests(unittest.TestCase):
         self.assertEqual(scene_of(Tree(2), Put(1, 2)).turns(), 675)
         self.assertEqual(scene_of(Tree(2), Take(1)).turns(), 190)
 
+    def told(self, tree, puts, takes, joins, sinks, others):
+        """What the point tells of so many calls of each kind, none of which has had a turn."""
+        c = puts + takes + joins + sinks + others
+        h = tree.node(tree.top())[0] + puts + 1
+        d = h * puts + takes + 3 * joins + sinks
+        n = len(tree.places()) + puts * (h + 1)
+        return c * (h + 1 + 4 * (d + c)) * (2 * (h + 2) * n + 13)
+
     def test_by_the_words_of_the_point(self):
         for tree in (Tree(2), tall_tree(), even_tree(4), tower(20)):
             for puts in (0, 1, 3):
-                for takes in (0, 1, 2):
-                    for finds in (0, 2):
-                        scene = scene_of(tree, *[Put(1, 2)] * puts + [Take(1)] * takes + [Find(1)] * finds)
-                        c = puts + takes + finds
-                        h = tree.node(tree.top())[0] + puts + 1
-                        d = h * puts + takes
-                        n = len(tree.places()) + puts * (h + 1)
-                        self.assertEqual(scene.turns(), c * (h + 1 + 4 * (d + c)) * (2 * (h + 2) * n + 13))
+                for takes, joins, sinks in ((0, 0, 0), (2, 0, 0), (0, 1, 0), (0, 0, 1), (1, 2, 3)):
+                    for others in ([], [Find(1)], [Parts(1, None)], [Whole(1, 9)], [Find(1), Parts(1, 2), Whole(1, 3)]):
+                        calls = [Put(1, 2)] * puts + [Take(1)] * takes + [Join(1, 0)] * joins + [Sink()] * sinks
+                        scene = scene_of(tree, *calls + others)
+                        self.assertEqual(scene.turns(), self.told(tree, puts, takes, joins, sinks, len(others)))
 
-    def test_joins_and_sinks_count_by_their_words(self):
-        for joins in (0, 1, 2):
-            for sinks in (0, 1, 2):
-                calls = [StandIn(("join", 1, 0))] * joins + [StandIn(("sink", 1))] * sinks
-                scene = scene_of(Tree(2), Put(1, 2), *calls)
-                c = 1 + joins + sinks
-                d = 2 + 3 * joins + sinks
-                self.assertEqual(scene.turns(), c * (3 + 4 * (d + c)) * (2 * 4 * 4 + 13))
+    def test_joins_and_sinks_in_a_new_tree(self):
+        self.assertEqual(scene_of(Tree(2), Join(1, 0)).turns(), (2 + 16) * 19)
+        self.assertEqual(scene_of(Tree(2), Sink()).turns(), (2 + 8) * 19)
+        self.assertEqual(scene_of(Tree(2), Sink(), Join(1, 0)).turns(), 2 * (2 + 24) * 19)
 
     def test_free_and_kept_places_count(self):
         nodes = [(0, leaf_of([5]), None, None, 0), 7, 8, 9]

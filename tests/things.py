@@ -2,9 +2,12 @@
 
 from nolocktree.errors import NoDoer, NoKey, TreeError
 from nolocktree.finds import Find
+from nolocktree.joins import Join, Sink
 from nolocktree.pages import Inner, Leaf
+from nolocktree.plain import Plain
 from nolocktree.rounds import Rounds
 from nolocktree.scenes import Scene
+from nolocktree.stretches import Parts, Whole
 from nolocktree.trees import Tree, tree_of
 
 LEAST = -999999999
@@ -24,7 +27,7 @@ def odd_things():
     return [
         None, True, False, "", "1", "key", "~ \n", {}, {1: 2}, {"a": [1, (2, {})]},
         Leaf([], []), Leaf([1], [2]), Inner([], [0]), NoKey(5), TreeError("words"), Rounds(), Tree(3),
-        Find(1), Scene(Tree(2)),
+        Find(1), Scene(Tree(2)), Join(1, 0), Sink(), Parts(1, 2), Whole(1, None), Plain([(1, 2)]),
     ]
 
 
@@ -138,6 +141,11 @@ def walk_by(*places):
     return [("top", None)] + [(word, place) for place in places for word in ("look", "read")]
 
 
+def at_place(place, *words):
+    """The steps with these words at this place."""
+    return [(word, place) for word in words]
+
+
 def turns_of(scene, number, many=None):
     """Where the doer stood ahead of each of its turns: so many turns, or all up to its end."""
     told = []
@@ -150,6 +158,22 @@ def go_to(scene, number, word):
     """Give the doer turns until it stands at a step with this word."""
     while scene.where(number)[0] != word:
         scene.turn(number)
+
+
+def run_calls(scene, *calls):
+    """Let these calls begin and end one behind the other; tell their answers."""
+    numbers = []
+    for call in calls:
+        numbers.append(scene.begin(call))
+        turns_of(scene, numbers[-1])
+    return [scene.answer(number) for number in numbers]
+
+
+def tower(level, most=2):
+    """A shaped tree whose top is of this level, one node at each."""
+    nodes = [(0, leaf_of([5]), None, None, 0)]
+    nodes += [(at, Inner([], [at - 1]), None, None, 0) for at in range(1, level + 1)]
+    return tree_of(most, level, 0, nodes)
 
 
 def join_unposted(scene):
