@@ -103,6 +103,8 @@ class Doer:
             self.read(tree, now)
         else:
             self.call.own_step(self, tree, now)
+        if self.has_ended():
+            tree.leave(self.number)
 
     def look(self, tree, now):
         """Note the node's version, and turn to reading it."""

@@ -59,6 +59,10 @@ class Rounds:
         """Whether each call that goes on has a greater lap."""
         return all([one > lap for one in self.call_laps.values()])
 
+    def kept_for(self, place):
+        """The numbers of the calls because of which the place is kept, rising, in a tuple."""
+        return tuple(sorted([number for number, lap in self.call_laps.items() if lap <= self.kept_laps[place]]))
+
     def is_used(self, thing):
         """Whether the thing, whatever it is, is a place in use."""
         return is_place(thing) and thing in self.in_use

@@ -2,9 +2,9 @@
 
 from nolocktree.calls import Call
 from nolocktree.doers import Doer
-from nolocktree.errors import Ended, Going, Held, NoCall, NoDoer, NoShape, NoTree, NoWeaving, TooMany, Waits
+from nolocktree.errors import Ended, Going, NoCall, NoDoer, NoShape, NoWeaving, TooMany, Waits
 from nolocktree.shapes import is_shaped
-from nolocktree.trees import Tree
+from nolocktree.trees import Tree, need_resting
 from nolocktree.words import is_row, is_whole
 
 MOST_CALLS = 60
@@ -13,16 +13,7 @@ GREATEST_TOP_LEVEL = 20
 
 def need_scene_tree(thing):
     """Refuse what is no shaped tree, of a bounded height, with which nobody has to do."""
-    if not isinstance(thing, Tree):
-        raise NoTree(thing)
-    for place in thing.places():
-        holder = thing.holder_of(place)
-        if holder is not None:
-            raise Held(place, holder)
-    going = thing.rounds().going()
-    if going:
-        number, lap = going[0]
-        raise Going(number)
+    need_resting(thing)
     if not is_shaped(thing) or thing.level_of(thing.top()) > GREATEST_TOP_LEVEL:
         raise NoShape(thing)
 
@@ -81,12 +72,11 @@ class Scene:
         place = self.waits(number)
         if place is not None:
             raise Waits(number, place)
-        stood = doer.stands_at()
         self.steps_done += 1
-        doer.step(self.own_tree, self.steps_done)
-        if doer.has_ended():
-            self.own_tree.leave(number)
-        return stood
+        # Another one takes the doer's place here: twins of this scene may have the doer, too, as it stood.
+        self.doers[number] = doer.twin()
+        self.doers[number].step(self.own_tree, self.steps_done)
+        return doer.stands_at()
 
     def run(self, weaving):
         """Give each number of the weaving its turn; tell how many steps were done then."""
@@ -128,7 +118,7 @@ class Scene:
         # A scene is made only of a tree at rest; this one's may not be.
         other = Scene(Tree(self.own_tree.most()))
         other.own_tree = self.own_tree.twin()
-        other.doers = [doer.twin() for doer in self.doers]
+        other.doers = list(self.doers)
         other.steps_done = self.steps_done
         return other
 

@@ -1,6 +1,7 @@
 """Trees: nodes in numbered places, which deeds make, hold, write, free and let go."""
 
-from nolocktree.errors import Held, NoDoer, NoEdge, NoLevel, NoMost, NoNumber, NoPage, NoPlace, NoShape, NotHeld
+from nolocktree.errors import (
+    Going, Held, NoDoer, NoEdge, NoLevel, NoMost, NoNumber, NoPage, NoPlace, NoShape, NoTree, NotHeld)
 from nolocktree.pages import Inner, Leaf
 from nolocktree.rounds import Rounds, rounds_of
 from nolocktree.words import is_count, is_doer, is_key, is_level, is_most, is_place, is_row
@@ -34,7 +35,10 @@ def need_doer(thing):
 
 
 class Node:
-    """What stands in a place; its version is the tree's to keep, since it goes on behind the node."""
+    """What stands in a place; its version is the tree's to keep, since it goes on behind the node.
+
+    A node never changes: each deed puts another one into the place. So twins of a tree may share their nodes.
+    """
 
     def __init__(self, level, bears, high, right):
         self.level = level
@@ -44,11 +48,11 @@ class Node:
         self.holder = None
         self.written = False
 
-    def twin(self):
-        """Another node that stands as this one does."""
+    def held_by(self, number, written):
+        """The same node, held by this doer, and written since or not; by nobody where the number is None."""
         other = Node(self.level, self.bears, self.high, self.right)
-        other.holder = self.holder
-        other.written = self.written
+        other.holder = number
+        other.written = written
         return other
 
 
@@ -87,7 +91,7 @@ class Tree:
         """Another tree that stands as this one does."""
         other = Tree(self.most_keys)
         other.own_rounds = self.own_rounds.twin()
-        other.nodes = {place: node.twin() for place, node in self.nodes.items()}
+        other.nodes = dict(self.nodes)
         other.versions = dict(self.versions)
         other.top_place = self.top_place
         return other
@@ -173,7 +177,7 @@ class Tree:
         node = self.nodes[place]
         if node.holder is not None:
             raise Held(place, node.holder)
-        node.holder = number
+        self.nodes[place] = node.held_by(number, False)
 
     def write(self, place, number, page, high, right):
         """Give the held node this page, high and right."""
@@ -181,10 +185,7 @@ class Tree:
         node = self.held_node(place, number)
         need_page(node.level, page)
         self.need_edge(high, right)
-        node.bears = page
-        node.high = high
-        node.right = right
-        node.written = True
+        self.nodes[place] = Node(node.level, page, high, right).held_by(number, True)
 
     def free(self, place, number):
         """Let nobody hold the held node any more."""
@@ -192,8 +193,7 @@ class Tree:
         node = self.held_node(place, number)
         if node.written:
             self.versions[place] += 1
-        node.holder = None
-        node.written = False
+        self.nodes[place] = node.held_by(None, False)
 
     def go(self, place, number):
         """Let the held node go, and its place with it."""
@@ -201,7 +201,7 @@ class Tree:
         if place == self.top_place:
             raise NoPlace(place)
         node = self.held_node(place, number)
-        node.holder = None
+        self.nodes[place] = node.held_by(None, False)
         self.versions[place] += 1
         self.own_rounds.went(place)
 
@@ -221,6 +221,20 @@ class Tree:
     def leave(self, number):
         """Let the call with this number go on no more."""
         self.own_rounds.leave(number)
+
+
+def need_resting(thing):
+    """Refuse what is no tree, or one with which somebody has to do: a node is held, or a call goes on."""
+    if not isinstance(thing, Tree):
+        raise NoTree(thing)
+    for place in thing.places():
+        holder = thing.holder_of(place)
+        if holder is not None:
+            raise Held(place, holder)
+    going = thing.rounds().going()
+    if going:
+        number, lap = going[0]
+        raise Going(number)
 
 
 def need_told_node(thing):

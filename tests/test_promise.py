@@ -5,6 +5,7 @@ import unittest
 
 from nolocktree.finds import Find
 from nolocktree.joins import Join, Sink
+from nolocktree.pages import Inner
 from nolocktree.papers import shows_history
 from nolocktree.plain import Plain
 from nolocktree.puts import Put
@@ -12,7 +13,9 @@ from nolocktree.shapes import is_shaped, pairs_of
 from nolocktree.stretches import Parts, Whole
 from nolocktree.takes import Take
 from nolocktree.trees import Tree, tree_of
-from tests.things import GREATEST, LEAST, even_tree, one_leaf, scene_of, tall_tree, told_scene, tower, turns_of
+from nolocktree.treetext import read_tree, write_tree
+from tests.things import (
+    GREATEST, LEAST, even_tree, leaf_of, one_leaf, scene_of, tall_tree, told_scene, tower, turns_of)
 
 
 def no_node_is_held(tree):
@@ -286,6 +289,22 @@ class DrawnOfAllTests(unittest.TestCase):
     def test_sixty_calls(self):
         self.check_met(self.check_drawn(even_tree(4, 4), list(range(0, 80, 5)), 60, 2), "join")
 
+    def test_in_trees_that_were_read_from_a_text(self):
+        for tree in (even_tree(3, 3), tall_tree(3), tower(2)):
+            self.check_drawn(read_tree(write_tree(tree)), list(range(0, 50, 5)), 10, 10)
+        for seed in range(5):
+            draw = random.Random(seed)
+            tree = Tree(2)
+            for stretch in range(5):
+                watch = Watch(self, tree, [drawn_of_all(draw, list(range(24))) for turn in range(12)])
+                watch.finish(draw.choice)
+                tree = read_tree(write_tree(watch.scene.tree()))
+
+    def test_in_trees_with_free_places(self):
+        nodes = [4, (0, leaf_of([1, 5]), 10, 3, 7), 10 ** 6, (0, leaf_of([10]), None, None, 0), 0,
+                 (1, Inner([10], [1, 3]), None, None, 1)]
+        self.check_drawn(tree_of(2, 5, 9, nodes), [0, 1, 3, 5, 7, 10, 12], 8, 40)
+
     def test_where_all_keys_are_taken_and_all_is_joined(self):
         for seed in range(15):
             draw = random.Random(seed)
@@ -389,8 +408,8 @@ class EveryTests(unittest.TestCase):
         self.assertGreater(self.check_every(one_leaf([5, 9], 2), [Whole(5, 9), Take(9)]), 10)
 
     def test_a_join_beside_a_find(self):
-        tree = tree_of(2, 2, 0, [(0, one_leaf([1], 2).page(0), 5, 1, 0), (0, one_leaf([9], 2).page(0), None, None, 0),
-                                 (1, even_tree(2).page(2).without_child(10).with_child(5, 1), None, None, 0)])
+        tree = tree_of(2, 2, 0, [(0, leaf_of([1]), 5, 1, 0), (0, leaf_of([9]), None, None, 0),
+                                 (1, Inner([5], [0, 1]), None, None, 0)])
         self.assertGreater(self.check_every(tree, [Join(0, 0), Find(9)]), 50)
 
 
@@ -503,7 +522,7 @@ class SameTests(unittest.TestCase):
             self.assertEqual(told[0], told[1])
 
     def test_places_that_are_free_are_given_again_the_least_one_first(self):
-        nodes = [(0, one_leaf([1, 2], 2).page(0), None, None, 0), 50, 60, 70]
+        nodes = [(0, leaf_of([1, 2]), None, None, 0), 50, 60, 70]
         watch = Watch(self, tree_of(2, 0, 3, nodes), [Put(3, 3), Put(4, 4), Put(5, 5)])
         watch.finish(min)
         tree = watch.scene.tree()
